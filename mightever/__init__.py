@@ -1,0 +1,1 @@
+"""Mightever: rights given and taken by rules, and papers for what can never be."""
