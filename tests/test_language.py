@@ -164,6 +164,77 @@ class TestNames(unittest.TestCase):
         self.assertEqual(sorted(methods & values), [])
         self.assertEqual(sorted(values & set(VALUES_OUT)), [])
 
+    def test_own_names_are_not_those_of_pythons_own_values(self):
+        taken = set()
+        for kind in (str, int, list, tuple, dict, set, bytes):
+            taken.update(dir(kind))
+        methods, values = methods_and_values()
+        self.assertEqual(sorted((methods & taken) - set(DOUBLE + OWN_METHODS + ["add", "discard"])), [])
+        free = "count index title find get join lower upper split strip copy add".split()
+        self.assertEqual(sorted((values & taken) - set(free)), [])
+
+    def test_parameters_and_locals_are_called_like_no_class_or_import(self):
+        for path, tree in trees():
+            tops = {part.name for part in tree.body if isinstance(part, ast.ClassDef)}
+            for part in tree.body:
+                if isinstance(part, ast.ImportFrom):
+                    tops.update(name.asname or name.name for name in part.names)
+            for node in ast.walk(tree):
+                if isinstance(node, ast.arg):
+                    self.assertNotIn(node.arg, tops, path.name)
+                if isinstance(node, ast.Name) and isinstance(node.ctx, ast.Store):
+                    self.assertNotIn(node.id, tops, path.name)
+
+    def test_each_name_is_bound_once_at_the_top(self):
+        for path, tree in trees():
+            names = [part.name for part in tree.body if isinstance(part, (ast.FunctionDef, ast.ClassDef))]
+            for part in tree.body:
+                if isinstance(part, ast.Assign):
+                    names.append(part.targets[0].id)
+                if isinstance(part, ast.ImportFrom):
+                    names.extend(name.asname or name.name for name in part.names)
+            self.assertEqual(len(names), len(set(names)), path.name)
+
+
+class TestImports(unittest.TestCase):
+    def imports(self):
+        """Of each file the names that it draws, by the file that it draws them from."""
+        drawn = {}
+        for path, tree in trees():
+            drawn[path.stem] = {}
+            for node in tree.body:
+                if isinstance(node, ast.ImportFrom):
+                    drawn[path.stem][node.module.split(".")[1]] = [name.name for name in node.names]
+        return drawn
+
+    def test_a_name_is_drawn_from_the_file_that_defines_it(self):
+        own = {path.stem: [getattr(part, "name", None) for part in tree.body] for path, tree in trees()}
+        for stem, drawn in self.imports().items():
+            for source, names in drawn.items():
+                for name in names:
+                    self.assertIn(name, own[source], stem)
+
+    def test_no_two_files_draw_from_one_another(self):
+        drawn = self.imports()
+
+        def reached(stem, seen):
+            for source in drawn[stem]:
+                if source not in seen:
+                    seen.add(source)
+                    reached(source, seen)
+            return seen
+
+        for stem in drawn:
+            self.assertNotIn(stem, reached(stem, set()))
+
+    def test_what_is_drawn_is_used(self):
+        for path, tree in trees():
+            used = {node.id for node in ast.walk(tree) if isinstance(node, ast.Name)}
+            for node in tree.body:
+                if isinstance(node, ast.ImportFrom):
+                    for name in node.names:
+                        self.assertIn(name.asname or name.name, used, path.name)
+
 
 if __name__ == "__main__":
     unittest.main()
