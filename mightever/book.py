@@ -18,6 +18,10 @@ def is_deed(thing):
     return thing[0] in VERBS and (thing[0] != "lay" or thing[1] == thing[3])
 
 
+def is_deed_of(office, thing):
+    return is_deed(thing) and thing[1] in office.folk and thing[2] in office.roles and thing[3] in office.folk
+
+
 def deeds_of_office(office):
     deeds = []
     for verb in VERBS:

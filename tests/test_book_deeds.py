@@ -3,8 +3,8 @@
 import itertools
 import unittest
 
-from refusals import (RefusalCase, all_states, bit_of, having_mask, is_of_ways, joined_ways, one_has, rights_held,
-                      term_holds, term_ways)
+from refusals import (RefusalCase, all_deeds, all_states, bit_of, having_mask, is_of_ways, joined_ways, one_has,
+                      rights_held, term_holds, term_ways)
 
 from mightever.book import Book
 from mightever.errors import Lacks
@@ -26,16 +26,6 @@ def solo_office():
 
 def book_of(office, rows):
     return Book(office, [rule_of(row) for row in rows])
-
-
-def all_deeds(office):
-    """All deeds of an office, in the order of point 32."""
-    found = []
-    for verb in ("give", "take", "lay"):
-        for who, role, whom in itertools.product(office.folk, office.roles, office.folk):
-            if verb != "lay" or who == whom:
-                found.append((verb, who, role, whom))
-    return found
 
 
 def books():

@@ -133,6 +133,24 @@ class TestForms(unittest.TestCase):
                     self.assertNotIn("*", [part.name for part in node.names], path.name)
 
 
+    def test_keywords_at_pythons_own_names(self):
+        allowed = {"sorted": ["key", "reverse"], "min": ["key", "default"], "max": ["key", "default"], "sum": ["start"],
+                   "enumerate": ["start"], "zip": ["strict"]}
+        for place, node in all_nodes():
+            if isinstance(node, ast.Call) and isinstance(node.func, ast.Name) and hasattr(builtins, node.func.id):
+                for word in node.keywords:
+                    self.assertIn(word.arg, allowed.get(node.func.id, []), place)
+
+    def test_sets_are_not_kept(self):
+        for path, tree in trees():
+            for node in ast.walk(tree):
+                for part in ast.iter_child_nodes(node):
+                    if isinstance(part, ast.Call) and isinstance(part.func, ast.Name) and part.func.id == "set":
+                        spot = isinstance(node, (ast.Compare, ast.BinOp))
+                        spot = spot or isinstance(node, ast.Call) and getattr(node.func, "id", "") in ("sorted", "len")
+                        self.assertTrue(spot, f"{path.name}:{part.lineno}")
+
+
 class TestNames(unittest.TestCase):
     def test_names_of_pythons_own(self):
         for place, node in all_nodes():
