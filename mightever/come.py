@@ -20,16 +20,19 @@ def is_of_one(state, ways):
     return False
 
 
-def turns_of(book, trusted):
+def gathered_turns(office, deeds):
     # What a deed changes hangs on its bit and on whether it is put in alone, so deeds that turn a bit alike lie
     # together: of each such turn the ways in which somebody may do it, each with one deed.
     turns = {}
-    for deed in book.deeds():
-        if deed[1] not in trusted:
-            ways = turns.setdefault((book.deed_bit(deed), deed[0] == "give"), {})
-            for way in book.ways(deed):
-                ways.setdefault(way, deed)
+    for deed, ways in deeds:
+        turn = turns.setdefault((office.bit(deed[3], deed[2]), deed[0] == "give"), {})
+        for way in ways:
+            turn.setdefault(way, deed)
     return turns
+
+
+def turns_of(book, trusted):
+    return gathered_turns(book.office, [(deed, book.ways(deed)) for deed in book.deeds() if deed[1] not in trusted])
 
 
 def deed_let_by(state, ways):
@@ -57,6 +60,15 @@ def arrivals_of(start, turns):
     return arrivals
 
 
+def row_behind(arrivals, state):
+    deeds = []
+    arrival = arrivals[state]
+    while arrival[0] > 0:
+        deeds.append(arrival[1])
+        arrival = arrivals[arrival[2]]
+    return list(reversed(deeds))
+
+
 class Coming:
     def __init__(self, book, start, trusted):
         must_be_beginning(book, start, trusted)
@@ -72,14 +84,7 @@ class Coming:
         return self.arrivals[state][0] if state in self.arrivals else None
 
     def row(self, state):
-        if self.steps(state) is None:
-            return None
-        deeds = []
-        arrival = self.arrivals[state]
-        while arrival[0] > 0:
-            deeds.append(arrival[1])
-            arrival = self.arrivals[arrival[2]]
-        return list(reversed(deeds))
+        return None if self.steps(state) is None else row_behind(self.arrivals, state)
 
     def row_to(self, goals):
         for state in self.arrivals:
@@ -92,11 +97,21 @@ def first_row(book, start, trusted, goals):
     return Coming(book, start, trusted).row_to(goals)
 
 
-def is_row(book, start, trusted, goals, row):
-    must_be_beginning(book, start, trusted)
+def may_do(office, trusted, thing):
+    return is_deed_of(office, thing) and thing[1] not in trusted
+
+
+def state_behind(books, start, trusted, row):
+    # The state behind a row that all these books let by, whose offices are alike; None where one of them doesn't.
     state = start
     for deed in row:
-        if not is_deed_of(book.office, deed) or deed[1] in trusted or not book.lets(state, deed):
-            return False
-        state = book.done(state, deed)
-    return is_of_one(state, goals)
+        if not may_do(books[0].office, trusted, deed) or not all([book.lets(state, deed) for book in books]):
+            return None
+        state = books[0].done(state, deed)
+    return state
+
+
+def is_row(book, start, trusted, goals, row):
+    must_be_beginning(book, start, trusted)
+    state = state_behind([book], start, trusted, row)
+    return state is not None and is_of_one(state, goals)

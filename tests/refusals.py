@@ -142,22 +142,45 @@ def drawn_bar(draw, roles):
     return f"most {draw.randint(1, 4)} {draw.choice(roles)}" if kind == "most" else f"last {draw.choice(roles)}"
 
 
-def drawn_book(draw, folk, roles):
-    """A book of so many folk and roles, with pairs, rules and bars as they are drawn."""
-    names = ["cid", "ann", "bob", "dan"][:folk]
+def drawn_office(draw, folk, roles):
     called = ["x", "boss", "ann", "by", "clerk", "q"][:roles]
     pairs = [pair for pair in itertools.combinations(draw.sample(called, roles), 2) if draw.random() < 0.3]
-    rows = [drawn_letting(draw, called) for _ in range(draw.randint(0, 8))]
-    rows.extend(drawn_bar(draw, called) for _ in range(draw.choice([0, 0, 1, 2, 4])))
+    return Office(["cid", "ann", "bob", "dan"][:folk], called, pairs)
+
+
+def drawn_book(draw, folk, roles):
+    """A book of so many folk and roles, with pairs, rules and bars as they are drawn."""
+    office = drawn_office(draw, folk, roles)
+    rows = [drawn_letting(draw, office.roles) for _ in range(draw.randint(0, 8))]
+    rows.extend(drawn_bar(draw, office.roles) for _ in range(draw.choice([0, 0, 1, 2, 4])))
     draw.shuffle(rows)
-    return Book(Office(names, called, pairs), [rule_of(row) for row in rows])
+    return Book(office, [rule_of(row) for row in rows])
 
 
-def drawn_books(seed, many, sizes):
+def drawn_giving(draw, roles):
+    return f"give {draw.choice(roles)} by {draw.choice(roles)}" + draw.choice(["", "", drawn_terms(draw, roles, "to")])
+
+
+def drawn_giving_book(draw, folk, roles):
+    """Likewise, but by most of its rules roles are given, often on no condition: so more comes about by it."""
+    office = drawn_office(draw, folk, roles)
+    rows = [draw.choice([drawn_giving, drawn_giving, drawn_letting])(draw, office.roles) for _ in range(draw.randint(3, 8))]
+    rows.extend(drawn_bar(draw, office.roles) for _ in range(draw.choice([0, 0, 1, 2])))
+    draw.shuffle(rows)
+    return Book(office, [rule_of(row) for row in rows])
+
+
+def drawn_few(draw, office):
+    """A state in which few rights are held."""
+    bits = [2 ** place for place in range(office.bits())]
+    return sum(draw.sample(bits, min(len(bits), draw.randint(1, 2))))
+
+
+def drawn_books(seed, many, sizes, drawn=drawn_book):
     """Some books, each with a start, trusted folk, and the drawing that goes on."""
     draw = random.Random(seed)
     for _ in range(many):
-        book = drawn_book(draw, *draw.choice(sizes))
+        book = drawn(draw, *draw.choice(sizes))
         folk = book.office.folk
         trusted = draw.choices(folk, k=draw.choice([0, 0, 1, 2]))
         yield book, draw.randrange(len(all_states(book.office))), trusted, draw
@@ -186,3 +209,94 @@ def drawn_ways(draw, office, many):
         both = draw.randint(0, full) & asked if draw.random() < 0.1 else 0
         ways.append((held | both, (asked & ~held) | both))
     return ways
+
+
+class PlainMoves:
+    """What each deed needs in each state of a small book, found rule by rule, so that rules can be struck quickly."""
+
+    def __init__(self, book):
+        self.book = book
+        self.moves = {}
+
+    def moves_from(self, state):
+        if state not in self.moves:
+            self.moves[state] = self.moves_found(state)
+        return self.moves[state]
+
+    def moves_found(self, state):
+        found = []
+        for deed in all_deeds(self.book.office):
+            bit = bit_of(self.book.office, deed[3], deed[2])
+            numbers = [number for number, rule in enumerate(self.book.rules, start=1)
+                       if rule.permits() and self.lets(rule, state, deed)]
+            barred = any(not rule.permits() and rule.speaks_of(deed) and not self.lets(rule, state, deed)
+                         for rule in self.book.rules)
+            if numbers and not barred and (deed[0] == "give") == (state & bit == 0):
+                found.append((deed, numbers, state ^ bit))
+        return found
+
+    def lets(self, rule, state, deed):
+        return rule.speaks_of(deed) and rule.missing(self.book.office, state, deed) is None
+
+    def moves_open(self, state, trusted, struck):
+        """The moves that are left, each with the numbers that are, as tuples (deed, numbers, state behind)."""
+        return [(deed, [number for number in numbers if number not in struck], behind)
+                for deed, numbers, behind in self.moves_from(state) if deed[1] not in trusted and set(numbers) - set(struck)]
+
+    def states(self, start, trusted, struck):
+        found, ahead = {start}, [start]
+        while ahead:
+            for _, _, behind in self.moves_open(ahead.pop(), trusted, struck):
+                if behind not in found:
+                    found.add(behind)
+                    ahead.append(behind)
+        return found
+
+    def comes(self, start, trusted, struck, goals):
+        return any(is_of_ways(state, goals) for state in self.states(start, trusted, struck))
+
+    def does(self, start, trusted, goals, wanted, struck):
+        """Point 84: whether these do when struck."""
+        if self.comes(start, trusted, struck, goals):
+            return False
+        return all(self.comes(start, [], struck, thing) for thing in wanted)
+
+    def fewest(self, start, trusted, goals, wanted):
+        """How few rules do, going through all choices of at most three; 4 where none of them does."""
+        letting = [number for number, rule in enumerate(self.book.rules, start=1) if rule.permits()]
+        for many in range(4):
+            if any(self.does(start, trusted, goals, wanted, struck) for struck in itertools.combinations(letting, many)):
+                return many
+        return 4
+
+
+def drawn_goals(draw, office):
+    """The ways of a wish of one part or two, told by the points alone."""
+    parts = [(draw.choice(office.folk), draw.choice(["has", "has", "not"]) + " " + draw.choice(office.roles))
+             for _ in range(draw.choice([1, 1, 2]))]
+    return sorted(joined_ways([term_ways(office, who, row) for who, row in parts]))
+
+
+def drawn_wanted(draw, plain, start):
+    """Goals that often might come, but don't stand at the start."""
+    for _ in range(draw.choice([0, 3, 6])):
+        goals = drawn_goals(draw, plain.book.office)
+        if not is_of_ways(start, goals) and plain.comes(start, [], [], goals):
+            return goals
+    return drawn_goals(draw, plain.book.office)
+
+
+def drawn_strikes(seed, many, sizes):
+    """Questions of what is to be struck, as tuples (the plain moves, start, trusted, goals, wanted, the drawing), most of
+    them such that the goals aren't come to at once."""
+    for book, start, trusted, draw in drawn_books(seed, many, sizes, drawn_giving_book):
+        if draw.random() < 0.8:
+            start = drawn_few(draw, book.office)
+        if draw.random() < 0.5:
+            trusted = []
+        goals = drawn_goals(draw, book.office)
+        for _ in range(6):
+            goals = drawn_goals(draw, book.office) if is_of_ways(start, goals) else goals
+        plain = PlainMoves(book)
+        wanted = [drawn_wanted(draw, plain, start) for _ in range(draw.choice([0, 1, 1, 2, 2]))]
+        yield plain, start, trusted, goals, wanted, draw

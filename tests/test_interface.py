@@ -12,6 +12,10 @@ FUNCTIONS = {
     "come": {"first_row": "book start trusted goals", "is_row": "book start trusted goals row"},
     "papers": {"lies_within": "way ban", "leading": "ban way bit sets", "is_paper": "book start trusted goals bans",
                "paper": "book start trusted goals", "answer": "book start trusted goals"},
+    "staying": {"loss": "book start trusted who role", "lasting": "book start trusted", "never_had": "book start trusted"},
+    "beside": {"common": "one other start trusted", "apart": "one other start trusted",
+               "is_apart": "one other start trusted row deed which"},
+    "striking": {"strike": "book start trusted goals wanted", "is_tree": "book start trusted goals wanted most tree"},
 }
 RULE = {"permits": "", "row": "", "names": "", "speaks_of": "deed", "missing": "office state deed", "ways": "office deed"}
 CONDITION = {"__init__": "role", "holds": "office state who", "row": "", "ways": "office who"}
@@ -29,6 +33,7 @@ CLASSES = {
     "log": {"Log": {"__init__": "book start", "do": "deed", "deeds_done": "", "state_now": "", "state_at": "number",
                     "since": "who role", "chain": "who role", "without_deed": "number", "copied": ""}},
     "come": {"Coming": {"__init__": "book start trusted", "states": "", "steps": "state", "row": "state"}},
+    "desk": {"Desk": {"__init__": "text", "say": "request"}},
 }
 
 

@@ -222,7 +222,8 @@ class TestImports(unittest.TestCase):
             drawn[path.stem] = {}
             for node in tree.body:
                 if isinstance(node, ast.ImportFrom):
-                    drawn[path.stem][node.module.split(".")[1]] = [name.name for name in node.names]
+                    names = drawn[path.stem].setdefault(node.module.split(".")[1], [])
+                    names.extend(name.name for name in node.names)
         return drawn
 
     def test_a_name_is_drawn_from_the_file_that_defines_it(self):
